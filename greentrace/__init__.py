@@ -1,0 +1,1 @@
+"""A store of green coffee and its trace: see greentrace.stores.answers."""
