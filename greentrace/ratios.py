@@ -66,3 +66,11 @@ def greatest(fractions):
         if is_less(found, fraction):
             found = fraction
     return found
+
+
+def in_whole_numbers(fractions):
+    """Whole numbers that stand to one another as these fractions do."""
+    common = 1
+    for fraction in fractions:
+        common = common // divisor(common, fraction[1]) * fraction[1]
+    return [fraction[0] * (common // fraction[1]) for fraction in fractions]

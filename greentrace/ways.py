@@ -7,25 +7,30 @@ MOST_WAYS = 64
 
 
 class Way:
-    """For each entry the deed that was done, the parts in each place, and what was sold.
+    """For each entry the deed that was done, the parts in each place, what was sold, what was thrown away.
 
     A way never changes once it's made: those that come of it share its parts.
     """
 
-    def __init__(self, choices, places, sold):
+    def __init__(self, choices, places, sold, thrown):
         self.choices = choices
         self.places = places
         self.sold = sold
+        self.thrown = thrown
 
 
 def first_way(layout):
-    return Way([], [[] for name in layout.places], [])
+    return Way([], [[] for name in layout.places], [], [])
 
 
 def with_place(places, place, parts):
     changed = list(places)
     changed[place] = parts
     return changed
+
+
+def with_places(way, places):
+    return Way(way.choices, places, way.sold, way.thrown)
 
 
 def can_be(way, deed):
@@ -39,7 +44,7 @@ def come(way, deed, layout):
     place = deed.places[0]
     greens = [deed.kilos if lot == deed.lot else ZERO for lot in range(len(layout.lots))]
     there = put(way.places[place], [Part(deed.kilos, greens)], layout.silos[place])
-    return Way(way.choices, with_place(way.places, place, there), way.sold)
+    return with_places(way, with_place(way.places, place, there))
 
 
 def move(way, deed, layout):
@@ -49,32 +54,33 @@ def move(way, deed, layout):
     places = with_place(way.places, source, halves[1])
     # The target is looked up once its parts are taken: it may be the source.
     there = put(places[target], halves[0], layout.silos[target])
-    return Way(way.choices, with_place(places, target, there), way.sold)
+    return with_places(way, with_place(places, target, there))
 
 
 def weigh(way, deed, layout):
     place = deed.places[0]
     there = weighed(way.places[place], deed.kilos)
-    return Way(way.choices, with_place(way.places, place, there), way.sold)
+    return with_places(way, with_place(way.places, place, there))
 
 
 def sell(way, deed, layout):
     place = deed.places[0]
     halves = taken_and_left(way.places[place], deed.kilos)
-    return Way(way.choices, with_place(way.places, place, halves[1]), way.sold + [mixed(halves[0])])
+    places = with_place(way.places, place, halves[1])
+    return Way(way.choices, places, way.sold + [mixed(halves[0])], way.thrown)
 
 
 def waste(way, deed, layout):
     place = deed.places[0]
     halves = taken_and_left(way.places[place], deed.kilos)
-    return Way(way.choices, with_place(way.places, place, halves[1]), way.sold)
+    return Way(way.choices, with_place(way.places, place, halves[1]), way.sold, way.thrown + halves[0])
 
 
 DOERS = {"come": come, "move": move, "weigh": weigh, "sell": sell, "waste": waste}
 
 
 def chosen(way, choices):
-    return Way(choices, way.places, way.sold)
+    return Way(choices, way.places, way.sold, way.thrown)
 
 
 def next_ways(ways, deeds, layout):

@@ -5,7 +5,9 @@ import unittest
 from tests.helper import last, printed, run, text_of
 
 QUESTIONS = [("worlds",), ("print",), ("place", 0, 0), ("place", 1, 1), ("kilos", 0), ("kilos", 1), ("sold",),
-             ("trace", 0, 0), ("share", 0, 1)]
+             ("trace", 0, 0), ("share", 0, 1), ("surely", 0, 0), ("recall", 0, 1, 2), ("ask", 0, 1), ("mass", 1),
+             ("way", 1), ("inside", 0, 1), ("find", "p"), ("unsettled",), ("enough", 1, 2, 3, [0]), ("sold_kilos", 0),
+             ("where", 1)]
 
 
 def shown(*steps):

@@ -8,9 +8,17 @@ from tests.helper import bytes_of, call, calls_of, last, printed, run, text_of
 TEXT = text_of("lot a", "lot b", "bag p", "silo q", "come a 5 to p", "come b 4 to q or come b 3 to p",
                "sell 2 from p")
 QUESTIONS = [("worlds",), ("print",), ("place", 0, 0), ("place", 0, 1), ("kilos", 1), ("sold",), ("trace", 0, 1),
-             ("share", 0, 0)]
+             ("share", 0, 0), ("surely", 0, 1), ("recall", 1, 1, 2), ("ask", 0, 0), ("mass", 1), ("way", 1),
+             ("inside", 1, 0), ("find", "q"), ("unsettled",), ("enough", 0, 1, 1, [0]), ("sold_kilos", 0), ("where", 1)]
 ALL_BUT_STORE = [("print",), ("more", "lot x"), ("more", ""), ("settle", 0, 0), ("undo",), ("worlds",),
-                 ("place", 0, 0), ("kilos", 0), ("sold",), ("trace", 0, 0), ("share", 0, 0)]
+                 ("place", 0, 0), ("kilos", 0), ("sold",), ("trace", 0, 0), ("share", 0, 0), ("surely", 0, 0),
+                 ("recall", 0, 0, 1), ("ask", 0, 0), ("mass", 0), ("way", 0), ("inside", 0, 0), ("find", "a"),
+                 ("find", ""), ("unsettled",), ("enough", 0, 0, 1, []), ("enough", 0, 0, 1, [0, 1]), ("sold_kilos", 0),
+                 ("where", 0)]
+# What each number of a call is, and how many of these TEXT has.
+ASKED = {"settle": "ec", "place": "il", "kilos": "i", "trace": "kl", "share": "kl", "surely": "kl", "ask": "kl",
+         "mass": "l", "way": "j", "inside": "ji", "sold_kilos": "k", "where": "l", "recall": "lnd", "enough": "lnds"}
+MANY = {"l": 2, "i": 2, "k": 1, "e": 3, "c": 1, "j": 2}
 
 
 class NoStore(unittest.TestCase):
@@ -20,7 +28,9 @@ class NoStore(unittest.TestCase):
 
     def test_it_is_told_ahead_of_all_others(self):
         for step in (("settle", -1, -1), ("place", 9, 9), ("kilos", -1000000), ("trace", 5, 5), ("share", -1, 0),
-                     ("undo",), ("more", "junk\n")):
+                     ("undo",), ("more", "junk\n"), ("surely", -1, -1), ("recall", 0, 2, 1), ("recall", -1, 0, 0),
+                     ("ask", -1, 9), ("mass", -1), ("way", -1), ("inside", -1, -1), ("find", "A"),
+                     ("enough", 9, 9, 9, [-1]), ("sold_kilos", -1), ("where", 1000000)):
             self.assertEqual(last(step), [-1], step)
 
     def test_a_wrong_text_is_no_store(self):
@@ -28,29 +38,49 @@ class NoStore(unittest.TestCase):
                          [[1, 1, 1], [-1], [1, 2, 2], [-1]])
 
 
+def first_good(name):
+    """A call that isn't refused, with the least numbers."""
+    return [name] + [{"d": 1, "s": []}.get(kind, 0) for kind in ASKED[name]]
+
+
 class OutOfRange(unittest.TestCase):
-    def test_places_lots_and_sold(self):
+    def test_below_at_and_above_each_range(self):
         good = run(("store", TEXT), *QUESTIONS)
-        wrong = []
-        for bad in (-1, -2, 2, 3, 1000000, -1000000):
-            wrong += [("place", bad, 0), ("place", 0, bad), ("place", bad, bad), ("kilos", bad)]
-            wrong += [("trace", 0, bad), ("share", 0, bad), ("trace", bad, bad), ("share", bad, bad)]
-        for bad in (-1, 1, 2, 1000000, -1000000):
-            wrong += [("trace", bad, 0), ("share", bad, 0)]
-        for step in wrong:
-            given = run(("store", TEXT), step, *QUESTIONS)
-            self.assertEqual(given[1], [-2], step)
-            self.assertEqual(given[2:], good[1:], step)
+        for name in ASKED:
+            self.assertEqual(last(("store", TEXT), first_good(name))[0], 0, name)
+            for at, kind in enumerate(ASKED[name], start=1):
+                if kind in MANY:
+                    step = first_good(name)
+                    step[at] = MANY[kind] - 1
+                    self.assertEqual(last(("store", TEXT), step)[0], 0, step)
+                    for bad in (-1000000, -MANY[kind], -1, MANY[kind], MANY[kind] + 1, 1000000):
+                        step[at] = bad
+                        given = run(("store", TEXT), step, *QUESTIONS)
+                        self.assertEqual(given[1], [-2], step)
+                        self.assertEqual(given[2:], good[1:], step)
+
+    def test_all_numbers_at_once(self):
+        for name in ASKED:
+            for bad in (-1, 9, 1000000, -1000000):
+                step = [name] + [[bad] if kind == "s" else bad for kind in ASKED[name]]
+                self.assertEqual(last(("store", TEXT), step), [-2], step)
 
     def test_an_empty_store_has_none(self):
-        steps = [("place", 0, 0), ("kilos", 0), ("trace", 0, 0), ("share", 0, 0), ("settle", 0, 0), ("undo",)]
-        self.assertEqual(run(("store", ""), *steps)[1:], [[-2]] * 5 + [[-3]])
+        steps = [first_good(name) for name in ASKED if name != "way"]
+        self.assertEqual(run(("store", ""), *steps)[1:], [[-2]] * len(steps))
+        self.assertEqual(run(("store", ""), ("undo",), ("find", "a"), ("way", 0))[1:], [[-3], [-3], [0]])
 
     def test_numbers_go_up_to_the_most_that_were_sold(self):
         text = text_of("lot a", "bag p", "come a 5 to p", "sell 1 from p", "sell 1 from p or waste 1 from p")
         given = run(("store", text), ("trace", 1, 0), ("trace", 2, 0), ("settle", 2, 1), ("trace", 1, 0),
                     ("trace", 0, 0))
         self.assertEqual(given[1:], [[0, 0, 1, 1, 1], [-2], [0, 1, 1, 3, 1], [-2], [0, 1, 1, 1, 1]])
+        for name in ("share", "surely", "ask"):
+            given = run(("store", text), (name, 1, 0), (name, 2, 0), ("settle", 2, 1), (name, 1, 0), (name, 0, 0))
+            self.assertEqual([answer[0] for answer in given], [0, 0, -2, 0, -2, 0], name)
+        given = run(("store", text), ("sold_kilos", 1), ("sold_kilos", 2), ("settle", 2, 1), ("sold_kilos", 1),
+                    ("enough", 0, 0, 1, [1]), ("undo",), ("undo",), ("enough", 0, 0, 1, [0]), ("enough", 0, 0, 1, []))
+        self.assertEqual([answer[0] for answer in given], [0, 0, -2, 0, -2, -2, 0, 0, -2, 0])
 
 
 class NothingChanges(unittest.TestCase):
